@@ -1,0 +1,1 @@
+"""Dearsigns: books of words in signs that cost unlike."""

@@ -1,0 +1,226 @@
+"""What the tests share: tongues, things that are none, and slow ways to the same answers."""
+
+from fractions import Fraction
+from itertools import product
+from random import Random
+
+
+def nested(many, inner=0):
+    """So many lists within one another."""
+    thing = inner
+    for step in range(many):
+        thing = [thing]
+    return thing
+
+
+def nested_tuples(many):
+    thing = ()
+    for step in range(many):
+        thing = (thing,)
+    return thing
+
+
+def nested_dicts(many):
+    thing = {}
+    for step in range(many):
+        thing = {"a": thing}
+    return thing
+
+
+# Things of any kind that are no text, no list with something in it, no tuple of two to four things.
+ODD_THINGS = [
+    None, True, False, 0, 1, -1, 7, 10 ** 60, (), {}, (None,), (1,), {"a": 1}, {0: "a", (1, "b"): None},
+    {None: [], True: ()}, nested_tuples(400), nested_dicts(400), ((((),),),),
+]
+ODD_TEXTS = ["", "a", "ab", "A", " ", "a ", "\n", "\t", "~", "a" * 9, "a" * 3000, "1", "-", "None"]
+ODD_LISTS = [[], [None], [[]], [()], [{}], [True], [0], [""], ["a"], ["a", None], nested(400), nested(8), [1] * 30]
+ODD_TUPLES = [(1, 2), (True, 1), (1, True), ("a", 1), (None, None), ([], []), (1, 2, 3), (1, 2, 3, 4), ([], [], [], 1),
+              (1, 2, 3, 4, 5), (nested(400), nested_tuples(398))]
+ANYTHING = ODD_THINGS + ODD_TEXTS + ODD_LISTS + ODD_TUPLES
+
+
+def sign(letter, price=(1, 1), last=(1, 1)):
+    return (letter, price, last)
+
+
+def plain_tongue(letters="ab", longest=3):
+    return ([sign(letter) for letter in letters], [], [], longest)
+
+
+def sample_tongue():
+    """Four signs, one without a last, one never first, a pair of unlike signs and one of twice the same."""
+    return ([sign("d", (1, 2), (5, 1)), sign("a", (2, 3), None), sign("c", (7, 1), (1, 9)), sign("b", (3, 1), (1, 2))],
+            ["b"], ["da", "cc"], 4)
+
+
+def wordless_tongues():
+    return [
+        ([sign("a"), sign("b")], ["b", "a"], [], 8),
+        ([sign("a", (1, 2), None), sign("b", (1, 2), None), sign("c", (3, 1), None)], [], [], 8),
+        ([sign("a"), sign("b", (1, 1), None)], ["a"], ["ba"], 8),
+    ]
+
+
+def tongue_of_5000_words():
+    signs = [sign(letter) for letter in "abcdef"]
+    signs[2] = sign("c", (1, 1), None)
+    return (signs, [], ["be", "de", "ec", "fe"], 5)
+
+
+def tongue_of_5001_words():
+    signs = [sign("a"), sign("b", (1, 1), None), sign("c"), sign("d"), sign("e", (1, 1), None)]
+    return (signs, [], ["ca", "cb", "ce", "de"], 6)
+
+
+def some_tongues(many=60):
+    """Small tongues of every make, the same ones at each run."""
+    chance = Random(20)
+    tongues = [sample_tongue(), plain_tongue(), plain_tongue("zyx", 1), *wordless_tongues()[1:]]
+    tongues = [(signs, firsts, pairs, min(longest, 4)) for signs, firsts, pairs, longest in tongues]
+    while len(tongues) < many:
+        letters = chance.sample("abcdefghijklmnopqrstuvwxyz", chance.randint(2, 6))
+        signs = [sign(letter, some_price(chance), some_price(chance) if chance.random() < 0.7 else None)
+                 for letter in letters]
+        firsts = [letter for letter in letters if chance.random() < 0.2]
+        often = chance.choice([0, 0.2, 0.5])
+        pairs = [one + other for one in letters for other in letters if chance.random() < often]
+        chance.shuffle(firsts)
+        chance.shuffle(pairs)
+        tongues.append((signs, firsts, pairs, chance.randint(1, 4 if len(letters) < 5 else 3)))
+    return tongues
+
+
+def some_price(chance):
+    return as_tuple(Fraction(chance.randint(1, 9), chance.randint(1, 9)))
+
+
+def as_tuple(one):
+    return (one.numerator, one.denominator)
+
+
+def as_fraction(one):
+    return Fraction(one[0], one[1])
+
+
+def texts_up_to(letters, longest):
+    """All texts of these letters, shorter ones first, of one length by the letters' order."""
+    return ["".join(row) for length in range(longest + 1) for row in product(letters, repeat=length)]
+
+
+def slow_stands(tongue, text):
+    signs, firsts, pairs, longest = tongue
+    if len(text) > longest or any(one not in [row[0] for row in signs] for one in text):
+        return False
+    if text and text[0] in firsts:
+        return False
+    return not any(text[place:place + 2] in pairs for place in range(len(text) - 1))
+
+
+def slow_is_word(tongue, text):
+    lasts = {row[0]: row[2] for row in tongue[0]}
+    return text != "" and slow_stands(tongue, text) and lasts[text[-1]] is not None
+
+
+def slow_way(tongue, text):
+    prices = {row[0]: as_fraction(row[1]) for row in tongue[0]}
+    return sum([prices[one] for one in text], Fraction(0))
+
+
+def slow_price(tongue, word):
+    lasts = {row[0]: row[2] for row in tongue[0]}
+    return slow_way(tongue, word[:-1]) + as_fraction(lasts[word[-1]])
+
+
+def slow_words(tongue):
+    letters = [row[0] for row in tongue[0]]
+    return [text for text in texts_up_to(letters, tongue[3]) if slow_is_word(tongue, text)]
+
+
+def wants_for(many, count=1):
+    return [(name, count + number) for number, name in enumerate("abcdefghijklmnopqrstuvwxyz"[:many])]
+
+
+def some_book(chance, tongue, most=20):
+    """A book of the tongue by chance, [] where it has no words; not ordered as a rule."""
+    words = slow_words(tongue)
+    chance.shuffle(words)
+    wanted = chance.randint(1, most)
+    book = []
+    for word in words:
+        if len(book) < wanted and not any(word.startswith(other) or other.startswith(word) for other in book):
+            book.append(word)
+    return book
+
+
+def spoilt_tongues():
+    """Tuples (thing, part): what is no tongue, and the part that is told of it."""
+    good = sample_tongue()
+    spoilt = [(thing, None) for thing in ANYTHING if not (isinstance(thing, tuple) and len(thing) == 4)]
+    spoilt += [(list(good), None), (good[:3], None), ((*good, 1), None), ({0: good}, None)]
+    for place, part in enumerate(("signs", "firsts", "pairs", "longest")):
+        for wrong in WRONG_PARTS[part]:
+            alone = (*good[:place], wrong, *good[place + 1:])
+            spoilt.append((alone, part))
+            for later in range(place + 1, 4):
+                spoilt.append(((*alone[:later], None, *alone[later + 1:]), part))
+    return spoilt
+
+
+WRONG_PARTS = {
+    "signs": [thing for thing in ANYTHING] + [
+        [sign("a")],
+        [sign(letter) for letter in "abcdefg"],
+        (sign("a"), sign("b")),
+        {"a": (1, 1), "b": (1, 1)},
+        "ab",
+        [sign("a"), sign("b"), sign("a")],
+        [sign("b"), sign("b")],
+        [sign("a"), sign("")],
+        [sign("a"), sign("bc")],
+        [sign("a"), sign("B")],
+        [sign("a"), sign("1")],
+        [sign("a"), sign(" ")],
+        [sign("a"), sign(None)],
+        [sign("a"), sign(["b"])],
+        [sign("a"), list(sign("b"))],
+        [sign("a"), ("b", (1, 1))],
+        [sign("a"), ("b", (1, 1), (1, 1), None)],
+        *[[sign("a"), sign("b", price, (1, 1))] for price in (
+            None, 1, True, "1", (0, 1), (-1, 2), (2, 4), (1, 0), (1, -1), (True, 1), (1, True), [1, 1], (1,), (1, 1, 1),
+            ("1", 1), (1, None), ((1, 1), 1))],
+        *[[sign("a"), sign("b", (1, 1), last)] for last in (
+            1, True, False, 0, "1", "-", (0, 1), (-1, 2), (2, 4), (1, 0), (1, -1), (True, 1), (1, True), [1, 1], (),
+            (1, 1, 1), {})],
+    ],
+    "firsts": [thing for thing in ANYTHING if thing != [] and thing != ["a"]] + [
+        ["a", "a"], ["a", "e"], ["ab"], ["da"], ("a",), {"a": True}, "a", ["a", None], [["a"]], [True], ["A"], [""],
+        ["d", "a", "c", "b", "d"],
+    ],
+    "pairs": [thing for thing in ANYTHING if thing != []] + [
+        ["ab", "ab"], ["ae"], ["ea"], ["a"], ["abc"], [""], ("ab",), {"ab": True}, "ab", ["ab", None], [("a", "b")],
+        [["a", "b"]], ["a b"], ["AB"], ["aa", "bb", "aa"], [12],
+    ],
+    "longest": [thing for thing in ANYTHING if thing not in (1, 7) or thing is True] + [
+        0, 9, -1, 10 ** 59, True, False, "3", None, (3, 1), [3], (3,),
+    ],
+}
+
+
+def spoilt_wants():
+    """Tuples (thing, number): what are no wants, and the number that is told of it."""
+    twenty = wants_for(20)
+    spoilt = [(thing, None) for thing in ANYTHING if not isinstance(thing, list) or thing == [] or len(thing) > 20]
+    spoilt += [(tuple(twenty), None), ({"a": 1}, None), (twenty + [("u", 1)], None), (twenty + [None], None)]
+    spoilt += [(thing, 0) for thing in ANYTHING if isinstance(thing, list) and 0 < len(thing) <= 20]
+    for wrong in WRONG_WANTS:
+        spoilt += [([wrong], 0), ([("a", 1), wrong], 1), ([wrong, wrong], 0), ([*twenty[:19], wrong], 19),
+                   ([*twenty[:7], wrong, None, ("b", 1)], 7)]
+    spoilt += [([("a", 1), ("b", 2), ("a", 3)], 2), ([("a", 1), ("a", 1), None], 1), ([*twenty[:19], ("s", 1)], 19)]
+    return spoilt
+
+
+WRONG_WANTS = [
+    None, 1, "a", [], ["a", 1], ("a",), ("a", 1, 1), (), {}, {"a": 1}, ("", 1), ("A", 1), ("abcdefghi", 1), (1, "a"),
+    (None, 1), (["a"], 1), ("a b", 1), ("a1", 1), ("x", -1), ("x", 10 ** 9 + 1), ("x", 10 ** 59), ("x", True),
+    ("x", False), ("x", None), ("x", "1"), ("x", (1, 1)), ("x", [1]), (True, 1), (("a", 1), 1),
+]
