@@ -1,0 +1,25 @@
+"""Wants: things with names and counts."""
+
+from dearsigns.errors import NoWants
+from dearsigns.numbers import is_name, is_whole_within
+
+MOST_THINGS = 20
+MOST_COUNT = 10 ** 9
+
+
+def look_at_wants(thing):
+    """None of wants, else NoWants with the number of the first thing that can't stand there."""
+    if not isinstance(thing, list) or len(thing) < 1 or len(thing) > MOST_THINGS:
+        raise NoWants(None)
+    names = set()
+    for number, want in enumerate(thing):
+        if not is_want(want) or want[0] in names:
+            raise NoWants(number)
+        names.add(want[0])
+
+
+def is_want(thing):
+    """Whether it is a tuple of a name and a count."""
+    if not isinstance(thing, tuple) or len(thing) != 2:
+        return False
+    return is_name(thing[0]) and is_whole_within(thing[1], 0, MOST_COUNT)

@@ -1,0 +1,140 @@
+"""Point 3 and the interface's first rows: nothing is changed or kept, and which refusal comes first."""
+
+from copy import deepcopy
+from unittest import TestCase
+
+from dearsigns.books import comes_ahead, cost_of, what_is_wrong
+from dearsigns.columns import columns_of
+from dearsigns.errors import DearError, NoTongue, NoWants
+from dearsigns.numbers import sum_of
+from dearsigns.tongues import look_at_tongue
+from dearsigns.trees import book_of, tree_of
+from dearsigns.wants import look_at_wants
+from dearsigns.words import is_word, may_come, may_stand, price_of, text_counts, way_of, word_counts, words_of
+from dearsigns.writing import write_row
+from tests.helpers import ANYTHING, plain_tongue, sample_tongue, spoilt_tongues, spoilt_wants, wants_for
+
+BOOK = ["dd", "ab", "db", "ac"]
+TREE = [("d", [("d", 0), ("b", 2)]), ("a", [("c", 3), ("b", 1)])]
+
+# Each function that takes a tongue, with what is handed in behind the tongue.
+OF_A_TONGUE = [
+    (look_at_tongue, []), (may_stand, ["d"]), (is_word, ["d"]), (may_come, ["", "d"]), (may_come, ["a", "b"]),
+    (way_of, ["dd"]), (price_of, ["dd"]), (words_of, []), (word_counts, []), (text_counts, []),
+    (comes_ahead, ["dd", "ab"]), (what_is_wrong, [wants_for(4), BOOK]), (what_is_wrong, [wants_for(4), BOOK, True]),
+    (cost_of, [wants_for(4), BOOK]), (tree_of, [BOOK]), (book_of, [4, TREE]), (columns_of, [BOOK]),
+]
+OF_WANTS = [(what_is_wrong, [BOOK]), (what_is_wrong, [None, True]), (what_is_wrong, [BOOK, False]), (cost_of, [BOOK])]
+
+
+def spoil(thing):
+    """Changes every list in what was told."""
+    if type(thing) in (list, tuple):
+        for part in thing:
+            spoil(part)
+    if type(thing) is list:
+        thing.append("spoilt")
+        thing.reverse()
+
+
+class KeepingTest(TestCase):
+
+    def calls(self):
+        """Functions with what is handed in, ordinary ones all."""
+        made = [(function, [sample_tongue(), *deepcopy(rest)]) for function, rest in OF_A_TONGUE]
+        made += [(look_at_wants, [wants_for(20)]), (sum_of, [[(1, 2), (1, 3)]]), (write_row, [list(BOOK), [0, 3, 0]])]
+        return made
+
+    def test_what_is_handed_in_stays(self):
+        for function, handed in self.calls():
+            before = deepcopy(handed)
+            function(*handed)
+            self.assertEqual(handed, before, function)
+
+    def test_what_is_refused_stays(self):
+        tongue, wants = sample_tongue(), wants_for(4)
+        for thing in ANYTHING:
+            before = repr(thing)
+            for function, handed in ((look_at_tongue, [thing]), (look_at_wants, [thing]), (write_row, [["ab"], thing]),
+                                     (write_row, [thing, thing]), (book_of, [tongue, 2, thing]),
+                                     (what_is_wrong, [tongue, wants, thing]), (words_of, [thing]),
+                                     (cost_of, [tongue, thing, BOOK])):
+                try:
+                    function(*handed)
+                except DearError:
+                    pass
+            self.assertEqual(repr(thing), before)
+        self.assertEqual((tongue, wants), (sample_tongue(), wants_for(4)))
+
+    def test_what_is_told_is_the_askers_own(self):
+        for function, handed in self.calls():
+            told = function(*handed)
+            before = deepcopy(told)
+            spoil(told)
+            self.assertEqual(function(*handed), before, function)
+
+    def test_what_was_told_stays_when_the_handed_in_changes(self):
+        for function, handed in self.calls():
+            told = function(*handed)
+            before = deepcopy(told)
+            spoil(handed)
+            self.assertEqual(told, before, function)
+
+    def test_nothing_hangs_on_what_was_asked_ahead(self):
+        alone = [function(*handed) for function, handed in self.calls()]
+        for thing, part in spoilt_tongues()[:40]:
+            with self.assertRaises(NoTongue):
+                words_of(thing)
+        again = [function(*handed) for function, handed in reversed(self.calls())]
+        self.assertEqual(alone, again[::-1])
+
+    def test_a_changed_tongue_is_told_of_as_it_is_then(self):
+        tongue = plain_tongue("ab", 2)
+        self.assertEqual(words_of(tongue), ["a", "b", "aa", "ab", "ba", "bb"])
+        tongue[1].append("b")
+        self.assertEqual(words_of(tongue), ["a", "aa", "ab"])
+        self.assertIs(is_word(tongue, "b"), False)
+        self.assertEqual(word_counts(tongue), [1, 2])
+        tongue[2].append("aa")
+        self.assertEqual(words_of(tongue), ["a", "ab"])
+        self.assertIs(may_come(tongue, "a", "a"), False)
+        self.assertEqual(text_counts(tongue), [1, 1])
+        tongue[0][0] = ("a", (5, 1), None)
+        self.assertEqual(words_of(tongue), ["ab"])
+        self.assertEqual(price_of(tongue, "ab"), (6, 1))
+        tongue[0].reverse()
+        del tongue[1][:]
+        self.assertEqual(words_of(tongue), ["b", "bb", "ab"])
+        self.assertIs(comes_ahead(tongue, "b", "ab"), True)
+        self.assertEqual(tree_of(tongue, ["ab", "b"]), [("b", 1), ("a", [("b", 0)])])
+        tongue[0].pop()
+        with self.assertRaises(NoTongue) as caught:
+            words_of(tongue)
+        self.assertEqual(caught.exception.part, "signs")
+
+
+class FirstRefusalTest(TestCase):
+
+    def test_no_tongue_comes_ahead_of_all_else(self):
+        spoilt = spoilt_tongues()
+        for function, rest in OF_A_TONGUE:
+            for thing, part in spoilt:
+                with self.assertRaises(NoTongue) as caught:
+                    function(thing, *rest)
+                self.assertEqual(caught.exception.part, part)
+
+    def test_no_tongue_comes_ahead_of_other_wrong_things(self):
+        for thing, part in spoilt_tongues():
+            for function, rest in ((may_stand, [None]), (is_word, [[]]), (what_is_wrong, [None, None]),
+                                   (what_is_wrong, [wants_for(2), None]), (cost_of, [None, BOOK]),
+                                   (book_of, [1, None])):
+                with self.assertRaises(NoTongue) as caught:
+                    function(thing, *rest)
+                self.assertEqual(caught.exception.part, part)
+
+    def test_then_no_wants(self):
+        for function, rest in OF_WANTS:
+            for thing, number in spoilt_wants():
+                with self.assertRaises(NoWants) as caught:
+                    function(sample_tongue(), thing, *rest)
+                self.assertEqual(caught.exception.number, number)
