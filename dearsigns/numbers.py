@@ -93,8 +93,19 @@ def sum_of(some):
 
 def rising(some):
     """The fractions of a list, the least first, in a new list."""
+    bottom = shared_bottom(some)
+    # Over one common bottom the tops have the order of the fractions.
+    return sorted(some, key=lambda each: top_over(each, bottom))
+
+
+def shared_bottom(some):
+    """The least number that each fraction's bottom divides."""
     shared = 1
     for one in some:
         shared = shared * one[1] // common_divisor(shared, one[1])
-    # Over one common bottom the tops have the order of the fractions.
-    return sorted(some, key=lambda each: each[0] * (shared // each[1]))
+    return shared
+
+
+def top_over(one, bottom):
+    """The fraction's top over another bottom, one that its own divides."""
+    return one[0] * (bottom // one[1])

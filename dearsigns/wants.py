@@ -1,6 +1,6 @@
 """Wants: things with names and counts."""
 
-from dearsigns.errors import NoWants
+from dearsigns.errors import NoWants, TooMany
 from dearsigns.numbers import is_name, is_whole_within
 
 MOST_THINGS = 20
@@ -23,3 +23,10 @@ def is_want(thing):
     if not isinstance(thing, tuple) or len(thing) != 2:
         return False
     return is_name(thing[0]) and is_whole_within(thing[1], 0, MOST_COUNT)
+
+
+def look_at_size(wants, ordered, most, most_ordered):
+    """None of at most so many things, free or ordered, else TooMany."""
+    allowed = most_ordered if ordered else most
+    if len(wants) > allowed:
+        raise TooMany(f"there are more than {allowed} things")

@@ -38,6 +38,13 @@ ODD_TUPLES = [(1, 2), (True, 1), (1, True), ("a", 1), (None, None), ([], []), (1
               (1, 2, 3, 4, 5), (nested(400), nested_tuples(398))]
 ANYTHING = ODD_THINGS + ODD_TEXTS + ODD_LISTS + ODD_TUPLES
 
+TWENTY_WORDS = [one + other for one in "abcde" for other in "wxyz"]
+NO_PLAIN_BOOKS = [thing for thing in ANYTHING if thing != ["a"]] + [
+    [*TWENTY_WORDS, "f"], ["a", "a"], ["a", "b", "ab"], ["ab", "b", "a"], ["abc", "ab"], ["a", ""], ["a", "abcdefghi"],
+    ["a", "B"], ["a", "b1"], ["a", "b "], ["a", None], ["a", ["b"]], ["a", 1], [True], ("a", "b"), {"a": "b"}, "ab",
+    {0: "a"}, [["a"]], [("a",)], ["a", "b\n"],
+]
+
 
 def sign(letter, price=(1, 1), last=(1, 1)):
     return (letter, price, last)
@@ -224,3 +231,46 @@ WRONG_WANTS = [
     (None, 1), (["a"], 1), ("a b", 1), ("a1", 1), ("x", -1), ("x", 10 ** 9 + 1), ("x", 10 ** 59), ("x", True),
     ("x", False), ("x", None), ("x", "1"), ("x", (1, 1)), ("x", [1]), (True, 1), (("a", 1), 1),
 ]
+
+
+def small_cases(many=40, most_things=4, most_rows=3000):
+    """Tuples (tongue, wants) with few rows of so many words, the same ones at each run; counts often alike or 0."""
+    chance = Random(40)
+    cases = []
+    for signs, firsts, pairs, longest in some_tongues(4 * many):
+        letters = [row[0] for row in signs[:3]]
+        tongue = (signs[:3], [one for one in firsts if one in letters],
+                  [pair for pair in pairs if pair[0] in letters and pair[1] in letters], min(longest, 3))
+        wants = [(name, chance.choice([0, 1, 1, 2, 5, 9, 1000, 10 ** 9]))
+                 for name in "abcdef"[:chance.randint(1, most_things)]]
+        if len(slow_words(tongue)) ** len(wants) <= most_rows:
+            cases.append((tongue, wants))
+    return cases[:many]
+
+
+def slow_books(tongue, many):
+    """All books for so many things, by going through all rows of words."""
+    books = [[]]
+    words = slow_words(tongue)
+    for step in range(many):
+        books = [[*book, word] for book in books for word in words
+                 if not any(word.startswith(other) or other.startswith(word) for other in book)]
+    return books
+
+
+def slow_is_ordered(tongue, book):
+    letters = [row[0] for row in tongue[0]]
+    places = [[letters.index(one) for one in word] for word in book]
+    return places == sorted(places)
+
+
+def slow_costs(tongue, wants, ordered):
+    """What each book costs."""
+    prices = {word: slow_price(tongue, word) for word in slow_words(tongue)}
+    return [sum([count * prices[word] for (name, count), word in zip(wants, book)], Fraction(0))
+            for book in slow_books(tongue, len(wants)) if not ordered or slow_is_ordered(tongue, book)]
+
+
+def slow_least(tongue, wants, ordered):
+    """What a cheapest book costs, None where there is none."""
+    return min(slow_costs(tongue, wants, ordered), default=None)

@@ -4,9 +4,12 @@ from copy import deepcopy
 from unittest import TestCase
 
 from dearsigns.books import comes_ahead, cost_of, what_is_wrong
+from dearsigns.cheapest import cheapest_book
 from dearsigns.columns import columns_of
 from dearsigns.errors import DearError, NoTongue, NoWants
+from dearsigns.floors import claim_of_floors, lets_floors
 from dearsigns.numbers import sum_of
+from dearsigns.reading import read_row
 from dearsigns.tongues import look_at_tongue
 from dearsigns.trees import book_of, tree_of
 from dearsigns.wants import look_at_wants
@@ -16,6 +19,7 @@ from tests.helpers import ANYTHING, plain_tongue, sample_tongue, spoilt_tongues,
 
 BOOK = ["dd", "ab", "db", "ac"]
 TREE = [("d", [("d", 0), ("b", 2)]), ("a", [("c", 3), ("b", 1)])]
+FLOORS = {("", 0, 3, (0, 1)): (1, 2), ("b", 3, 1, (2, 3)): None, ("a", 1, 0, (1,)): (0, 1)}
 
 # Each function that takes a tongue, with what is handed in behind the tongue.
 OF_A_TONGUE = [
@@ -23,18 +27,27 @@ OF_A_TONGUE = [
     (way_of, ["dd"]), (price_of, ["dd"]), (words_of, []), (word_counts, []), (text_counts, []),
     (comes_ahead, ["dd", "ab"]), (what_is_wrong, [wants_for(4), BOOK]), (what_is_wrong, [wants_for(4), BOOK, True]),
     (cost_of, [wants_for(4), BOOK]), (tree_of, [BOOK]), (book_of, [4, TREE]), (columns_of, [BOOK]),
+    (lets_floors, [wants_for(4), FLOORS, False]), (lets_floors, [wants_for(4), FLOORS, True]),
+    (cheapest_book, [wants_for(4), False]), (cheapest_book, [wants_for(4), True]),
 ]
-OF_WANTS = [(what_is_wrong, [BOOK]), (what_is_wrong, [None, True]), (what_is_wrong, [BOOK, False]), (cost_of, [BOOK])]
+OF_WANTS = [
+    (what_is_wrong, [BOOK]), (what_is_wrong, [None, True]), (what_is_wrong, [BOOK, False]), (cost_of, [BOOK]),
+    (lets_floors, [FLOORS, False]), (lets_floors, [None, True]), (cheapest_book, [False]), (cheapest_book, [True]),
+]
 
 
 def spoil(thing):
-    """Changes every list in what was told."""
+    """Changes every list and dict in what was told."""
     if type(thing) in (list, tuple):
         for part in thing:
             spoil(part)
     if type(thing) is list:
         thing.append("spoilt")
         thing.reverse()
+    if type(thing) is dict:
+        for key in list(thing)[::2]:
+            thing[key] = "spoilt"
+        thing["spoilt"] = thing.pop(list(thing)[-1])
 
 
 class KeepingTest(TestCase):
@@ -42,7 +55,8 @@ class KeepingTest(TestCase):
     def calls(self):
         """Functions with what is handed in, ordinary ones all."""
         made = [(function, [sample_tongue(), *deepcopy(rest)]) for function, rest in OF_A_TONGUE]
-        made += [(look_at_wants, [wants_for(20)]), (sum_of, [[(1, 2), (1, 3)]]), (write_row, [list(BOOK), [0, 3, 0]])]
+        made += [(look_at_wants, [wants_for(20)]), (sum_of, [[(1, 2), (1, 3)]]), (write_row, [list(BOOK), [0, 3, 0]]),
+                 (read_row, [list(BOOK), "ddacdb"]), (claim_of_floors, [wants_for(2), dict(FLOORS)])]
         return made
 
     def test_what_is_handed_in_stays(self):
@@ -58,7 +72,9 @@ class KeepingTest(TestCase):
             for function, handed in ((look_at_tongue, [thing]), (look_at_wants, [thing]), (write_row, [["ab"], thing]),
                                      (write_row, [thing, thing]), (book_of, [tongue, 2, thing]),
                                      (what_is_wrong, [tongue, wants, thing]), (words_of, [thing]),
-                                     (cost_of, [tongue, thing, BOOK])):
+                                     (cost_of, [tongue, thing, BOOK]), (read_row, [["ab"], thing]),
+                                     (read_row, [thing, thing]), (lets_floors, [tongue, wants, thing, False]),
+                                     (cheapest_book, [tongue, thing, True])):
                 try:
                     function(*handed)
                 except DearError:
@@ -127,7 +143,9 @@ class FirstRefusalTest(TestCase):
         for thing, part in spoilt_tongues():
             for function, rest in ((may_stand, [None]), (is_word, [[]]), (what_is_wrong, [None, None]),
                                    (what_is_wrong, [wants_for(2), None]), (cost_of, [None, BOOK]),
-                                   (book_of, [1, None])):
+                                   (book_of, [1, None]), (lets_floors, [None, None, False]),
+                                   (lets_floors, [wants_for(20), {}, False]), (cheapest_book, [None, True]),
+                                   (cheapest_book, [wants_for(20), True])):
                 with self.assertRaises(NoTongue) as caught:
                     function(thing, *rest)
                 self.assertEqual(caught.exception.part, part)
@@ -138,3 +156,9 @@ class FirstRefusalTest(TestCase):
                 with self.assertRaises(NoWants) as caught:
                     function(sample_tongue(), thing, *rest)
                 self.assertEqual(caught.exception.number, number)
+
+    def test_no_wants_where_no_tongue_is_handed_in(self):
+        for thing, number in spoilt_wants():
+            with self.assertRaises(NoWants) as caught:
+                claim_of_floors(thing, {})
+            self.assertEqual(caught.exception.number, number)

@@ -4,14 +4,7 @@ from unittest import TestCase
 
 from dearsigns.errors import DearError, NoBook, NoThing
 from dearsigns.writing import write_row
-from tests.helpers import ANYTHING
-
-TWENTY = [one + other for one in "abcde" for other in "wxyz"]
-NO_BOOKS = [thing for thing in ANYTHING if thing != ["a"]] + [
-    [*TWENTY, "f"], ["a", "a"], ["a", "b", "ab"], ["ab", "b", "a"], ["abc", "ab"], ["a", ""], ["a", "abcdefghi"],
-    ["a", "B"], ["a", "b1"], ["a", "b "], ["a", None], ["a", ["b"]], ["a", 1], [True], ("a", "b"), {"a": "b"}, "ab",
-    {0: "a"}, [["a"]], [("a",)], ["a", "b\n"],
-]
+from tests.helpers import ANYTHING, NO_PLAIN_BOOKS, TWENTY_WORDS
 
 
 class WritingTest(TestCase):
@@ -26,7 +19,7 @@ class WritingTest(TestCase):
         self.assertEqual(write_row(["a"], [0, 0, 0]), "aaa")
 
     def test_twenty_words(self):
-        self.assertEqual(write_row(TWENTY, [19, 0, 19]), "ezawez")
+        self.assertEqual(write_row(TWENTY_WORDS, [19, 0, 19]), "ezawez")
 
     def test_no_list(self):
         for thing in ANYTHING:
@@ -44,13 +37,13 @@ class WritingTest(TestCase):
                 self.assertEqual(caught.exception.place, place)
 
     def test_no_plain_book(self):
-        for thing in NO_BOOKS:
+        for thing in NO_PLAIN_BOOKS:
             with self.assertRaises(NoBook, msg=repr(thing)[:200]) as caught:
                 write_row(thing, [])
             self.assertIsInstance(caught.exception, DearError)
 
     def test_no_book_comes_ahead_of_no_thing(self):
-        for thing in NO_BOOKS:
+        for thing in NO_PLAIN_BOOKS:
             for row in (None, [None], "a", [7], (0,)):
                 with self.assertRaises(NoBook):
                     write_row(thing, row)

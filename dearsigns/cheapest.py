@@ -1,0 +1,54 @@
+"""The cheapest book, free or ordered, with floors that claim what it costs."""
+
+from dearsigns.numbers import fraction
+from dearsigns.seats import Seats, things_of
+from dearsigns.tongues import look_at_tongue
+from dearsigns.wants import look_at_size, look_at_wants
+
+MOST_THINGS_FREE = 6
+MOST_THINGS_ORDERED = 12
+
+
+def cheapest_book(tongue, wants, ordered):
+    """A tuple (book, cost, floors), book and cost None where there is no book; TooMany of too many things."""
+    look_at_tongue(tongue)
+    look_at_wants(wants)
+    look_at_size(wants, ordered, MOST_THINGS_FREE, MOST_THINGS_ORDERED)
+    seats = Seats(tongue, wants, ordered)
+    floors = told_floors(seats)
+    everything = (1 << len(wants)) - 1
+    cost = as_told(seats, seats.costs[("", 0, 0)][everything])
+    if cost is None:
+        return (None, None, floors)
+    words = {}
+    put_words(seats, "", everything, words)
+    return ([words[number] for number in range(len(wants))], cost, floors)
+
+
+def told_floors(seats):
+    """The least costs of all seats, as floors."""
+    things = {mask: things_of(mask) for mask in seats.partings}
+    return {(sign, deep, start, things[mask]): as_told(seats, costs[mask])
+            for (sign, deep, start), costs in seats.costs.items() for mask in costs}
+
+
+def as_told(seats, cost):
+    """The fraction that a seat's cost is, None of None."""
+    return None if cost is None else fraction(cost, seats.bottom)
+
+
+def put_words(seats, text, mask, words):
+    """Puts cheapest words that begin with the text into words, by their things' numbers."""
+    sign = text[-1:]
+    deep = len(text)
+    rest = mask
+    for number, comer in enumerate(seats.signs):
+        if rest == 0:
+            return
+        taken, rest = seats.cheapest_parting(sign, deep, number, rest)
+        if taken == 0:
+            continue
+        if seats.end_cost(number, taken) == seats.takes[(number, deep)][taken]:
+            words[taken.bit_length() - 1] = text + comer
+        else:
+            put_words(seats, text + comer, taken, words)
