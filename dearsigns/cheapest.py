@@ -15,14 +15,16 @@ def cheapest_book(tongue, wants, ordered):
     look_at_wants(wants)
     look_at_size(wants, ordered, MOST_THINGS_FREE, MOST_THINGS_ORDERED)
     seats = Seats(tongue, wants, ordered)
-    floors = told_floors(seats)
-    everything = (1 << len(wants)) - 1
-    cost = as_told(seats, seats.costs[("", 0, 0)][everything])
-    if cost is None:
-        return (None, None, floors)
+    return (book_from(seats), as_told(seats, seats.whole_cost()), told_floors(seats))
+
+
+def book_from(seats):
+    """A cheapest book, None where there is none."""
+    if seats.whole_cost() is None:
+        return None
     words = {}
-    put_words(seats, "", everything, words)
-    return ([words[number] for number in range(len(wants))], cost, floors)
+    put_words(seats, "", seats.everything, words)
+    return [words[number] for number in things_of(seats.everything)]
 
 
 def told_floors(seats):

@@ -1,6 +1,6 @@
 """Floors: bounds from below for seats, and whether they are let by."""
 
-from dearsigns.numbers import NOUGHT, fraction, is_fraction, is_whole_within, plus, times, under
+from dearsigns.numbers import NOUGHT, fraction, is_from_nought, is_whole_within, plus, times, under
 from dearsigns.seats import counts_together, is_one, mask_of, masks_up_to, partings_of
 from dearsigns.tongues import look_at_tongue, signs_of
 from dearsigns.wants import look_at_size, look_at_wants
@@ -36,11 +36,6 @@ def are_floors(tongue, many, thing, ordered):
     if not all(is_seat(signs, tongue[3], many, seat, ordered) for seat in thing):
         return False
     return all(floor is None or is_from_nought(floor) for floor in thing.values())
-
-
-def is_from_nought(thing):
-    """Whether it is a fraction from nought on."""
-    return is_fraction(thing) and not under(thing, NOUGHT)
 
 
 def is_seat(signs, longest, many, thing, ordered):

@@ -27,6 +27,11 @@ def is_fraction(thing):
     return common_divisor(top, bottom) == 1
 
 
+def is_from_nought(thing):
+    """Whether it is a fraction from nought on."""
+    return is_fraction(thing) and thing[0] >= 0
+
+
 def is_name(thing):
     """Whether it is a text of one to eight small letters."""
     if not isinstance(thing, str) or thing == "" or len(thing) > LONGEST_NAME:

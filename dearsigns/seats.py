@@ -3,9 +3,8 @@
 Some things are one number here, their mask: its bit k tells whether thing k is among them.
 """
 
-from dearsigns.numbers import shared_bottom, top_over
 from dearsigns.tongues import signs_of
-from dearsigns.words import comers_behind
+from dearsigns.words import comers_behind, over_one_bottom
 
 
 def mask_of(things):
@@ -56,15 +55,15 @@ class Seats:
     """
 
     def __init__(self, tongue, wants, ordered):
-        rows = tongue[0]
+        self.bottom, rows = over_one_bottom(tongue)
         self.signs = signs_of(tongue)
         self.longest = tongue[3]
         self.comers = comers_behind(tongue)
-        self.bottom = shared_bottom([one for sign, price, last in rows for one in (price, last) if one is not None])
-        self.prices = [top_over(price, self.bottom) for sign, price, last in rows]
-        self.lasts = [None if last is None else top_over(last, self.bottom) for sign, price, last in rows]
+        self.prices = [price for sign, price, last in rows]
+        self.lasts = [last for sign, price, last in rows]
         self.partings = {mask: partings_of(mask, ordered) for mask in masks_up_to(len(wants), ordered)}
         self.together = {mask: counts_together(wants, mask) for mask in self.partings}
+        self.everything = (1 << len(wants)) - 1
         self.costs = {}
         self.takes = {}
         self.reckon()
@@ -111,6 +110,10 @@ class Seats:
         if self.signs[number] in self.comers[sign]:
             return self.takes[(number, deep)]
         return {0: 0}
+
+    def whole_cost(self):
+        """The least cost of all things together, None where there is no book."""
+        return self.costs[("", 0, 0)][self.everything]
 
     def cheapest_parting(self, sign, deep, number, mask):
         """The tuple (taken, rest) of a cheapest way of a seat where something can be."""

@@ -4,7 +4,7 @@ The functions of the interface look at the tongue; the others are handed one tha
 """
 
 from dearsigns.errors import TooMany
-from dearsigns.numbers import plus, sum_of
+from dearsigns.numbers import plus, shared_bottom, sum_of, top_over
 from dearsigns.tongues import look_at_tongue, signs_of
 
 MOST_WORDS = 5000
@@ -107,6 +107,21 @@ def reckon_price(tongue, word):
 def lasts_of(tongue):
     """Each sign's last, by the sign."""
     return {sign: last for sign, price, last in tongue[0]}
+
+
+def over_one_bottom(tongue):
+    """A tuple (bottom, rows): the signs with their prices and lasts as tops over one common bottom."""
+    rows = tongue[0]
+    bottom = shared_bottom([one for sign, price, last in rows for one in (price, last) if one is not None])
+    return (bottom, [(sign, top_over(price, bottom), None if last is None else top_over(last, bottom))
+                     for sign, price, last in rows])
+
+
+def price_tops(rows, words):
+    """Each word's price, by the word, as a top over the bottom of these rows."""
+    prices = {sign: price for sign, price, last in rows}
+    lasts = {sign: last for sign, price, last in rows}
+    return {word: sum([prices[sign] for sign in word[:-1]]) + lasts[word[-1]] for word in words}
 
 
 def comers_behind(tongue):

@@ -79,6 +79,33 @@ def tongue_of_5001_words():
     return (signs, [], ["ca", "cb", "ce", "de"], 6)
 
 
+def tongue_with(letters, lastless, firsts, pairs, longest):
+    """Signs that all cost alike, some of them never a word's last."""
+    signs = [sign(letter, (1, 1), None if letter in lastless else (1, 1)) for letter in letters]
+    return (signs, firsts, pairs, longest)
+
+
+def tongue_of_5000_texts(lastless=""):
+    return tongue_with("abcde", lastless, [], ["ba", "bc", "da", "dc", "ea"], 6)
+
+
+def tongue_of_5001_texts(lastless=""):
+    return tongue_with("abcde", lastless, ["d", "e"], ["ad", "eb", "ec", "ed"], 6)
+
+
+# The greatest tongues for trees of reasons, and such as are too great for these by a word or a text.
+MOST_OF_REASONS = [
+    tongue_with("abcde", "c", ["d"], ["bc", "eb"], 4),
+    tongue_with("abcdef", "cdef", [], ["bf", "de", "df", "ea", "ec"], 4),
+]
+TOO_MANY_FOR_REASONS = [
+    tongue_with("abcde", "d", ["d"], ["cb", "dc"], 4),
+    tongue_with("abcdef", "cdef", ["d"], ["dc", "de", "df", "eb"], 4),
+    tongue_with("abcdef", "abcdef", ["d"], ["dc", "de", "df", "eb"], 4),
+    tongue_with("abcdef", "", [], [], 8),
+]
+
+
 def some_tongues(many=60):
     """Small tongues of every make, the same ones at each run."""
     chance = Random(20)
@@ -274,3 +301,84 @@ def slow_costs(tongue, wants, ordered):
 def slow_least(tongue, wants, ordered):
     """What a cheapest book costs, None where there is none."""
     return min(slow_costs(tongue, wants, ordered), default=None)
+
+
+def slow_share(whole, parts, text):
+    """The share of a text."""
+    by_signs = {(ahead, one): as_fraction(part) for ahead, one, part in parts}
+    share = as_fraction(whole)
+    for place, one in enumerate(text):
+        share *= by_signs.get((text[place - 1] if place else "", one), 0)
+    return share
+
+
+# No fraction from nought on.
+NO_SHARE = [None, True, False, 0, 1, "1", "", (2, 4), (0, 2), (1, 0), (-1, 1), (-1, 10 ** 50), (1, -1), (True, 1),
+            (1, True), [1, 1], (1,), (1, 1, 1), (), ("1", 1), ((1, 1), 1), (None, 1), [], {}, {0: 1}, nested(300),
+            nested_tuples(300)]
+
+
+def spoilt_shares(one, other, foreign, many):
+    """Things without the form of shares, of a tongue with one and the other sign but not the foreign one."""
+    whole, parts, values = (1, 2), [("", one, (1, 2)), (one, other, (1, 3)), (one, one, (2, 3))], [(0, 1)] * many
+    spoilt = [thing for thing in ANYTHING]
+    spoilt += [[whole, parts, values], (whole, parts), (whole, parts, values, values), (parts, whole, values),
+               (whole, values, parts), ((whole, parts, values),), {0: whole, 1: parts, 2: values}]
+    spoilt += [(wrong, parts, values) for wrong in NO_SHARE]
+    wrong_parts = [tuple(parts), {part: True for part in parts}, None, 1, "", "ab", parts[0], [parts], [None], [()],
+                   [whole], [list(parts[0])], [parts[0][:2]], [(*parts[0], (0, 1))], [*parts, parts[0]],
+                   [*parts, ("", one, (0, 1))], [parts[0], parts[1], ("", one, (1, 4))], nested(300),
+                   nested_tuples(300), [nested_tuples(300)], [(one, other, (1, 3)), (one, one, (201, 300))],
+                   [("", one, (1, 1)), ("", other, (1, 10 ** 50))], [("", one, (3, 2))], [("", one, (10 ** 59, 1))],
+                   [(one, other, (1, 2)), (other, one, (1, 1)), (one, one, (2, 3))]]
+    wrong_parts += [[parts[0], (one, other, wrong)] for wrong in NO_SHARE]
+    for wrong in (foreign, one + other, one.upper(), None, 0, True, (), (one,), [one], [], {}, " ", nested(300)):
+        wrong_parts += [[(wrong, one, (1, 2))], [parts[1], (one, wrong, (0, 1))], [("", wrong, (0, 1))]]
+    wrong_parts += [[(one, "", (1, 2))], [("", "", (1, 2))]]
+    spoilt += [(whole, wrong, values) for wrong in wrong_parts]
+    wrong_values = [tuple(values), None, 0, "", {}, {0: (0, 1)}, values[1:], [*values, (0, 1)], [values], nested(300),
+                    nested_tuples(300)]
+    wrong_values += [[*values[:-1], wrong] for wrong in NO_SHARE] + [[wrong, *values[1:]] for wrong in NO_SHARE]
+    return spoilt + [(whole, parts, wrong) for wrong in wrong_values]
+
+
+def slow_candidates(tongue, part):
+    """The words that go with a part, as the document tells it."""
+    said = dict(part)
+    return [word for word in slow_words(tongue)
+            if all(said[text] == "on" for text in said if word.startswith(text) and text != word)
+            and said.get(word, "ends") == "ends"]
+
+
+def next_texts(tongue, part):
+    """The texts that may stand next in a part."""
+    said = dict(part)
+    texts = [text for text in texts_up_to([row[0] for row in tongue[0]], tongue[3]) if text]
+    return [text for text in texts if text not in said and slow_stands(tongue, text)
+            and all(said.get(text[:deep]) == "on" for deep in range(1, len(text)))]
+
+
+def some_part(chance, tongue, most):
+    """A part by chance, of at most so many texts."""
+    part = []
+    while len(part) < most:
+        texts = next_texts(tongue, part)
+        if not texts:
+            break
+        part.append((chance.choice(texts), chance.choice(["ends", "on", "on", "unused"])))
+    return part
+
+
+def goes_with_part(book, part):
+    """Whether what a part says is so of a book."""
+    for text, word in part:
+        begun = [other for other in book if other.startswith(text)]
+        real = "ends" if text in book else "on" if begun else "unused"
+        if word != real:
+            return False
+    return True
+
+
+def tree_size(tree):
+    """How many splits and reasons are in a tree of reasons."""
+    return 1 + sum(tree_size(part) for part in tree[2]) if tree[0] == "split" else 1

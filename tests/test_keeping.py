@@ -6,20 +6,30 @@ from unittest import TestCase
 from dearsigns.books import comes_ahead, cost_of, what_is_wrong
 from dearsigns.cheapest import cheapest_book
 from dearsigns.columns import columns_of
-from dearsigns.errors import DearError, NoTongue, NoWants
+from dearsigns.errors import DearError, NoTongue, NoWants, TooMany
 from dearsigns.floors import claim_of_floors, lets_floors
 from dearsigns.numbers import sum_of
+from dearsigns.parts import candidates_of
 from dearsigns.reading import read_row
+from dearsigns.reasons import is_reason, lets_tree
+from dearsigns.seeking import seek_book
+from dearsigns.shares import claim_of_shares, lets_shares
+from dearsigns.sharing import shares_for
 from dearsigns.tongues import look_at_tongue
 from dearsigns.trees import book_of, tree_of
 from dearsigns.wants import look_at_wants
 from dearsigns.words import is_word, may_come, may_stand, price_of, text_counts, way_of, word_counts, words_of
 from dearsigns.writing import write_row
-from tests.helpers import ANYTHING, plain_tongue, sample_tongue, spoilt_tongues, spoilt_wants, wants_for
+from tests.helpers import ANYTHING, plain_tongue, sample_tongue, spoilt_tongues, spoilt_wants, tongue_of_5001_texts, \
+    wants_for
 
 BOOK = ["dd", "ab", "db", "ac"]
 TREE = [("d", [("d", 0), ("b", 2)]), ("a", [("c", 3), ("b", 1)])]
 FLOORS = {("", 0, 3, (0, 1)): (1, 2), ("b", 3, 1, (2, 3)): None, ("a", 1, 0, (1,)): (0, 1)}
+SHARES = ((1, 2), [("", "a", (1, 2)), ("a", "b", (1, 3)), ("a", "c", (2, 3))], [(1, 9), (0, 1)])
+PART = [("a", "on"), ("ab", "ends"), ("d", "unused")]
+REASONS = [("few",), ("must",), ("dead", "a"), ("cheapest",), ("shares", *SHARES)]
+REASON_TREE = ("split", "a", (("dead", "a"), ("split", "ab", (("cheapest",), ("few",), ("cheapest",))), REASONS[4]))
 
 # Each function that takes a tongue, with what is handed in behind the tongue.
 OF_A_TONGUE = [
@@ -29,10 +39,17 @@ OF_A_TONGUE = [
     (cost_of, [wants_for(4), BOOK]), (tree_of, [BOOK]), (book_of, [4, TREE]), (columns_of, [BOOK]),
     (lets_floors, [wants_for(4), FLOORS, False]), (lets_floors, [wants_for(4), FLOORS, True]),
     (cheapest_book, [wants_for(4), False]), (cheapest_book, [wants_for(4), True]),
+    (lets_shares, [wants_for(2), SHARES]), (shares_for, [wants_for(4)]), (candidates_of, [PART]),
+    *[(is_reason, [wants_for(2), (1, 2), PART, reason]) for reason in REASONS],
+    (lets_tree, [wants_for(2), (1, 2), REASON_TREE]), (seek_book, [wants_for(4), (29, 6), 400]),
+    (seek_book, [wants_for(4), (1, 2), 400]), (seek_book, [wants_for(8), (60, 1), 400]),
 ]
 OF_WANTS = [
     (what_is_wrong, [BOOK]), (what_is_wrong, [None, True]), (what_is_wrong, [BOOK, False]), (cost_of, [BOOK]),
     (lets_floors, [FLOORS, False]), (lets_floors, [None, True]), (cheapest_book, [False]), (cheapest_book, [True]),
+    (lets_shares, [SHARES]), (lets_shares, [None]), (shares_for, []), (is_reason, [(1, 2), PART, REASONS[-1]]),
+    (is_reason, [(1, 2), [], None]), (lets_tree, [(1, 2), REASON_TREE]), (lets_tree, [(1, 2), None]),
+    (seek_book, [(1, 2), 400]),
 ]
 
 
@@ -56,7 +73,8 @@ class KeepingTest(TestCase):
         """Functions with what is handed in, ordinary ones all."""
         made = [(function, [sample_tongue(), *deepcopy(rest)]) for function, rest in OF_A_TONGUE]
         made += [(look_at_wants, [wants_for(20)]), (sum_of, [[(1, 2), (1, 3)]]), (write_row, [list(BOOK), [0, 3, 0]]),
-                 (read_row, [list(BOOK), "ddacdb"]), (claim_of_floors, [wants_for(2), dict(FLOORS)])]
+                 (read_row, [list(BOOK), "ddacdb"]), (claim_of_floors, [wants_for(2), dict(FLOORS)]),
+                 (claim_of_shares, [deepcopy(SHARES)]), (seek_book, [plain_tongue("ab", 3), wants_for(3), (9, 1), 9])]
         return made
 
     def test_what_is_handed_in_stays(self):
@@ -74,7 +92,9 @@ class KeepingTest(TestCase):
                                      (what_is_wrong, [tongue, wants, thing]), (words_of, [thing]),
                                      (cost_of, [tongue, thing, BOOK]), (read_row, [["ab"], thing]),
                                      (read_row, [thing, thing]), (lets_floors, [tongue, wants, thing, False]),
-                                     (cheapest_book, [tongue, thing, True])):
+                                     (cheapest_book, [tongue, thing, True]), (lets_shares, [tongue, wants, thing]),
+                                     (is_reason, [tongue, wants, (1, 2), [], thing]),
+                                     (lets_tree, [tongue, wants, (1, 2), thing]), (shares_for, [tongue, thing])):
                 try:
                     function(*handed)
                 except DearError:
@@ -145,7 +165,9 @@ class FirstRefusalTest(TestCase):
                                    (what_is_wrong, [wants_for(2), None]), (cost_of, [None, BOOK]),
                                    (book_of, [1, None]), (lets_floors, [None, None, False]),
                                    (lets_floors, [wants_for(20), {}, False]), (cheapest_book, [None, True]),
-                                   (cheapest_book, [wants_for(20), True])):
+                                   (cheapest_book, [wants_for(20), True]), (lets_shares, [None, None]),
+                                   (shares_for, [None]), (is_reason, [None, (1, 2), [], None]),
+                                   (lets_tree, [None, (1, 2), None]), (seek_book, [None, (1, 2), 1])):
                 with self.assertRaises(NoTongue) as caught:
                     function(thing, *rest)
                 self.assertEqual(caught.exception.part, part)
@@ -155,6 +177,17 @@ class FirstRefusalTest(TestCase):
             for thing, number in spoilt_wants():
                 with self.assertRaises(NoWants) as caught:
                     function(sample_tongue(), thing, *rest)
+                self.assertEqual(caught.exception.number, number)
+
+    def test_no_wants_come_ahead_of_too_many(self):
+        tongue = tongue_of_5001_texts()
+        for function, rest in ((shares_for, []), (is_reason, [(1, 2), [], None]), (lets_tree, [(1, 2), None]),
+                               (seek_book, [(1, 2), 1])):
+            with self.assertRaises(TooMany):
+                function(tongue, wants_for(2), *rest)
+            for thing, number in spoilt_wants():
+                with self.assertRaises(NoWants) as caught:
+                    function(tongue, thing, *rest)
                 self.assertEqual(caught.exception.number, number)
 
     def test_no_wants_where_no_tongue_is_handed_in(self):

@@ -155,6 +155,17 @@ class NamesTest(TestCase):
                 self.assertFalse(hasattr(builtins, name), name)
                 self.assertNotIn(name, BARRED_NAMES)
 
+    def test_no_name_is_a_method_and_an_attribute(self):
+        methods, assigned, read = set(), set(), set()
+        for path in files():
+            for node in nodes(path):
+                if isinstance(node, ast.ClassDef):
+                    methods |= {row.name for row in node.body if isinstance(row, ast.FunctionDef)}
+                elif isinstance(node, ast.Attribute):
+                    (assigned if isinstance(node.ctx, ast.Store) else read).add(node.attr)
+        self.assertFalse(methods & assigned)
+        self.assertLessEqual(read, methods | assigned | set(METHODS))
+
     def test_builtins_and_methods(self):
         own = {node.name for path in files() for node in nodes(path) if isinstance(node, ast.FunctionDef)}
         for path in files():
