@@ -63,3 +63,9 @@ def are_unlike_texts_of(choices, thing):
 def signs_of(tongue):
     """The signs of a tongue, in their order."""
     return [row[0] for row in tongue[0]]
+
+
+def own_tongue(tongue):
+    """The same tongue with lists of its own."""
+    signs, firsts, pairs, longest = tongue
+    return (list(signs), list(firsts), list(pairs), longest)

@@ -22,7 +22,17 @@ def is_want(thing):
     """Whether it is a tuple of a name and a count."""
     if not isinstance(thing, tuple) or len(thing) != 2:
         return False
-    return is_name(thing[0]) and is_whole_within(thing[1], 0, MOST_COUNT)
+    return is_name(thing[0]) and is_count(thing[1])
+
+
+def is_count(thing):
+    """Whether it is a count of a thing."""
+    return is_whole_within(thing, 0, MOST_COUNT)
+
+
+def with_count(wants, number, count):
+    """The wants, in a new list, with another count for the thing of this number."""
+    return [(name, count if place == number else old) for place, (name, old) in enumerate(wants)]
 
 
 def look_at_size(wants, ordered, most, most_ordered):

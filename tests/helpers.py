@@ -170,6 +170,12 @@ def slow_words(tongue):
     return [text for text in texts_up_to(letters, tongue[3]) if slow_is_word(tongue, text)]
 
 
+def great_tongue():
+    """Six signs, words to eight signs, more than two million words; ends cost far less than ways."""
+    signs = [sign(letter, (997 - place, 1009), (3, 11 + 3 * place)) for place, letter in enumerate("abcdef")]
+    return (signs, ["a"], ["ab"], 8)
+
+
 def wants_for(many, count=1):
     return [(name, count + number) for number, name in enumerate("abcdefghijklmnopqrstuvwxyz"[:many])]
 
@@ -291,11 +297,21 @@ def slow_is_ordered(tongue, book):
     return places == sorted(places)
 
 
+def slow_cost(tongue, wants, book):
+    """What a book costs."""
+    return sum([count * slow_price(tongue, word) for (name, count), word in zip(wants, book)], Fraction(0))
+
+
+def costed_books(tongue, wants, ordered):
+    """Tuples (book, cost) of all books, or all ordered ones."""
+    prices = {word: slow_price(tongue, word) for word in slow_words(tongue)}
+    return [(book, sum([count * prices[word] for (name, count), word in zip(wants, book)], Fraction(0)))
+            for book in slow_books(tongue, len(wants)) if not ordered or slow_is_ordered(tongue, book)]
+
+
 def slow_costs(tongue, wants, ordered):
     """What each book costs."""
-    prices = {word: slow_price(tongue, word) for word in slow_words(tongue)}
-    return [sum([count * prices[word] for (name, count), word in zip(wants, book)], Fraction(0))
-            for book in slow_books(tongue, len(wants)) if not ordered or slow_is_ordered(tongue, book)]
+    return [cost for book, cost in costed_books(tongue, wants, ordered)]
 
 
 def slow_least(tongue, wants, ordered):

@@ -3,11 +3,14 @@
 from copy import deepcopy
 from unittest import TestCase
 
+from dearsigns.binding import bound_book
 from dearsigns.books import comes_ahead, cost_of, what_is_wrong
 from dearsigns.cheapest import cheapest_book
 from dearsigns.columns import columns_of
+from dearsigns.counting import books_many, sets_by_size
 from dearsigns.errors import DearError, NoTongue, NoWants, TooMany
 from dearsigns.floors import claim_of_floors, lets_floors
+from dearsigns.mending import mend
 from dearsigns.numbers import sum_of
 from dearsigns.parts import candidates_of
 from dearsigns.reading import read_row
@@ -30,6 +33,8 @@ SHARES = ((1, 2), [("", "a", (1, 2)), ("a", "b", (1, 3)), ("a", "c", (2, 3))], [
 PART = [("a", "on"), ("ab", "ends"), ("d", "unused")]
 REASONS = [("few",), ("must",), ("dead", "a"), ("cheapest",), ("shares", *SHARES)]
 REASON_TREE = ("split", "a", (("dead", "a"), ("split", "ab", (("cheapest",), ("few",), ("cheapest",))), REASONS[4]))
+BOUND = [{}, {1: "dd"}, {3: "dd", 0: "acdb"}, {1: "no"}]
+ELDERS = [["dd", None, "acb", "dd"], ["cd", "cb", "dd", "x"], BOOK]
 
 # Each function that takes a tongue, with what is handed in behind the tongue.
 OF_A_TONGUE = [
@@ -43,13 +48,17 @@ OF_A_TONGUE = [
     *[(is_reason, [wants_for(2), (1, 2), PART, reason]) for reason in REASONS],
     (lets_tree, [wants_for(2), (1, 2), REASON_TREE]), (seek_book, [wants_for(4), (29, 6), 400]),
     (seek_book, [wants_for(4), (1, 2), 400]), (seek_book, [wants_for(8), (60, 1), 400]),
+    *[(bound_book, [wants_for(4), bound, ordered]) for bound in BOUND for ordered in (False, True)],
+    *[(mend, [wants_for(4), elder, (1, 2), ordered]) for elder in ELDERS for ordered in (False, True)],
+    (sets_by_size, [7]), (books_many, [4, False]), (books_many, [4, True]),
 ]
 OF_WANTS = [
     (what_is_wrong, [BOOK]), (what_is_wrong, [None, True]), (what_is_wrong, [BOOK, False]), (cost_of, [BOOK]),
     (lets_floors, [FLOORS, False]), (lets_floors, [None, True]), (cheapest_book, [False]), (cheapest_book, [True]),
     (lets_shares, [SHARES]), (lets_shares, [None]), (shares_for, []), (is_reason, [(1, 2), PART, REASONS[-1]]),
     (is_reason, [(1, 2), [], None]), (lets_tree, [(1, 2), REASON_TREE]), (lets_tree, [(1, 2), None]),
-    (seek_book, [(1, 2), 400]),
+    (seek_book, [(1, 2), 400]), (bound_book, [BOUND[1], False]), (bound_book, [BOUND[0], True]),
+    (mend, [ELDERS[0], (1, 2), False]), (mend, [ELDERS[1], (0, 1), True]),
 ]
 
 
@@ -64,7 +73,7 @@ def spoil(thing):
     if type(thing) is dict:
         for key in list(thing)[::2]:
             thing[key] = "spoilt"
-        thing["spoilt"] = thing.pop(list(thing)[-1])
+        thing["spoilt"] = thing.pop(list(thing)[-1]) if thing else None
 
 
 class KeepingTest(TestCase):
@@ -167,7 +176,9 @@ class FirstRefusalTest(TestCase):
                                    (lets_floors, [wants_for(20), {}, False]), (cheapest_book, [None, True]),
                                    (cheapest_book, [wants_for(20), True]), (lets_shares, [None, None]),
                                    (shares_for, [None]), (is_reason, [None, (1, 2), [], None]),
-                                   (lets_tree, [None, (1, 2), None]), (seek_book, [None, (1, 2), 1])):
+                                   (lets_tree, [None, (1, 2), None]), (seek_book, [None, (1, 2), 1]),
+                                   (bound_book, [None, {}, False]), (bound_book, [wants_for(20), {}, False]),
+                                   (mend, [None, [], (0, 1), False]), (mend, [wants_for(20), [], (0, 1), True])):
                 with self.assertRaises(NoTongue) as caught:
                     function(thing, *rest)
                 self.assertEqual(caught.exception.part, part)
