@@ -66,3 +66,9 @@ def is_ahead(signs, one, other):
         if sign != against:
             return signs.index(sign) < signs.index(against)
     return False
+
+
+def put_in_places(some, places):
+    """The things of a list in a new one, each at the place that is told for it."""
+    by_place = {place: one for place, one in zip(places, some)}
+    return [by_place[place] for place in range(len(some))]

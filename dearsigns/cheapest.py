@@ -18,6 +18,13 @@ def cheapest_book(tongue, wants, ordered):
     return (book_from(seats), as_told(seats, seats.whole_cost()), told_floors(seats))
 
 
+def least_price(tongue):
+    """The least price of a word of a tongue that was looked at, None where it has none."""
+    # One thing that is wanted once costs just what its word does, and no word is gone through for it.
+    seats = Seats(tongue, [("any", 1)], True)
+    return as_told(seats, seats.whole_cost())
+
+
 def book_from(seats):
     """A cheapest book, None where there is none."""
     if seats.whole_cost() is None:

@@ -19,12 +19,19 @@ def mend(tongue, wants, elder, slack, ordered):
     front = seats.whole_front()
     if not front:
         return None
-    # Pairs fall in what is kept and in cost, so the last one is a cheapest book's, and the first within is the mend's.
-    most = plus(seats.told_cost(front[-1]), slack)
-    pair = [pair for pair in front if not under(most, seats.told_cost(pair))][0]
+    pair = first_within(seats, front, slack)
     book = seats.book_with(pair)
     changed = [number for number, word in enumerate(book) if word != texts.get(number)]
     return (book, seats.told_cost(pair), changed)
+
+
+def first_within(seats, front, slack):
+    """The pair of a front that keeps most within a slack of the least cost."""
+    # What is kept and what it costs fall together, so the last pair is a cheapest book's.
+    cheapest = front[-1]
+    most = plus(seats.told_cost(cheapest), slack)
+    within = [pair for pair in front[:-1] if not under(most, seats.told_cost(pair))]
+    return within[0] if within else cheapest
 
 
 def look_at_mended_size(wants, ordered):

@@ -32,11 +32,21 @@ def is_from_nought(thing):
     return is_fraction(thing) and thing[0] >= 0
 
 
+def is_above_nought(thing):
+    """Whether it is a fraction above nought."""
+    return is_fraction(thing) and thing[0] > 0
+
+
 def is_name(thing):
     """Whether it is a text of one to eight small letters."""
     if not isinstance(thing, str) or thing == "" or len(thing) > LONGEST_NAME:
         return False
     return all(sign in LETTERS for sign in thing)
+
+
+def is_letter(thing):
+    """Whether it is a text of one small letter."""
+    return is_name(thing) and len(thing) == 1
 
 
 def common_divisor(one, other):

@@ -1,6 +1,6 @@
 """Whether a book costs less than a least is sought: a book is told, or a tree of reasons why there is none."""
 
-from dearsigns.books import cost_of, first_clash
+from dearsigns.books import cost_of, first_clash, put_in_places
 from dearsigns.cheapest import book_from
 from dearsigns.numbers import under
 from dearsigns.parts import candidates_among
@@ -37,13 +37,7 @@ def book_in_order(tongue, wants, order):
     It is soon reckoned, also for many things, and by their counts' order seldom much dearer than the cheapest of all.
     """
     words = book_from(Seats(tongue, [wants[number] for number in order], True))
-    return None if words is None else given_out(order, words)
-
-
-def given_out(order, words):
-    """The book that gives the words to the things in this order."""
-    by_number = {number: word for number, word in zip(order, words)}
-    return [by_number[number] for number in range(len(words))]
+    return None if words is None else put_in_places(words, order)
 
 
 class Seeker:
@@ -69,7 +63,7 @@ class Seeker:
         words = cheapest_words(self.ground, said, candidates)
         clash = first_clash(words)
         if clash is None:
-            self.book = given_out(things_by_falling_counts(self.ground.counts), words)
+            self.book = put_in_places(words, things_by_falling_counts(self.ground.counts))
             return None
         if len(said) == MOST_SPLITS_WITHIN:
             return None

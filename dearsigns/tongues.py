@@ -1,7 +1,7 @@
 """Tongues: what is one, and what its signs are."""
 
 from dearsigns.errors import NoTongue
-from dearsigns.numbers import NOUGHT, is_fraction, is_name, is_whole_within, under
+from dearsigns.numbers import is_above_nought, is_letter, is_whole_within
 
 FEWEST_SIGNS = 2
 MOST_SIGNS = 6
@@ -38,14 +38,7 @@ def is_sign_row(thing):
     if not isinstance(thing, tuple) or len(thing) != 3:
         return False
     sign, price, last = thing
-    if not is_name(sign) or len(sign) != 1:
-        return False
-    return is_above_nought(price) and (last is None or is_above_nought(last))
-
-
-def is_above_nought(thing):
-    """Whether it is a fraction above nought."""
-    return is_fraction(thing) and under(NOUGHT, thing)
+    return is_letter(sign) and is_above_nought(price) and (last is None or is_above_nought(last))
 
 
 def are_unlike_texts_of(choices, thing):

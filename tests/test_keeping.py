@@ -3,8 +3,11 @@
 from copy import deepcopy
 from unittest import TestCase
 
+from dearsigns.allbooks import all_books, costs_of_all
 from dearsigns.binding import bound_book
 from dearsigns.books import comes_ahead, cost_of, what_is_wrong
+from dearsigns.casereader import read_case, read_fraction
+from dearsigns.casewriter import write_case
 from dearsigns.cheapest import cheapest_book
 from dearsigns.columns import columns_of
 from dearsigns.counting import books_many, sets_by_size
@@ -20,6 +23,7 @@ from dearsigns.shares import claim_of_shares, lets_shares
 from dearsigns.sharing import shares_for
 from dearsigns.tongues import look_at_tongue
 from dearsigns.trees import book_of, tree_of
+from dearsigns.turning import dearer, more_often, put_book, put_wants, turned_book, turned_text, turned_tongue
 from dearsigns.wants import look_at_wants
 from dearsigns.words import is_word, may_come, may_stand, price_of, text_counts, way_of, word_counts, words_of
 from dearsigns.writing import write_row
@@ -50,7 +54,10 @@ OF_A_TONGUE = [
     (seek_book, [wants_for(4), (1, 2), 400]), (seek_book, [wants_for(8), (60, 1), 400]),
     *[(bound_book, [wants_for(4), bound, ordered]) for bound in BOUND for ordered in (False, True)],
     *[(mend, [wants_for(4), elder, (1, 2), ordered]) for elder in ELDERS for ordered in (False, True)],
-    (sets_by_size, [7]), (books_many, [4, False]), (books_many, [4, True]),
+    (sets_by_size, [7]), (books_many, [4, False]), (books_many, [4, True]), (all_books, [1, False]),
+    (all_books, [1, True]), (costs_of_all, [wants_for(1), False]), (costs_of_all, [wants_for(1), True]),
+    (turned_tongue, [["z", "a", "q", "c"]]), (turned_text, [["z", "a", "q", "c"], "dacb"]),
+    (turned_book, [["z", "a", "q", "c"], BOOK]), (dearer, [(7, 3)]),
 ]
 OF_WANTS = [
     (what_is_wrong, [BOOK]), (what_is_wrong, [None, True]), (what_is_wrong, [BOOK, False]), (cost_of, [BOOK]),
@@ -58,7 +65,8 @@ OF_WANTS = [
     (lets_shares, [SHARES]), (lets_shares, [None]), (shares_for, []), (is_reason, [(1, 2), PART, REASONS[-1]]),
     (is_reason, [(1, 2), [], None]), (lets_tree, [(1, 2), REASON_TREE]), (lets_tree, [(1, 2), None]),
     (seek_book, [(1, 2), 400]), (bound_book, [BOUND[1], False]), (bound_book, [BOUND[0], True]),
-    (mend, [ELDERS[0], (1, 2), False]), (mend, [ELDERS[1], (0, 1), True]),
+    (mend, [ELDERS[0], (1, 2), False]), (mend, [ELDERS[1], (0, 1), True]), (costs_of_all, [False]),
+    (costs_of_all, [True]),
 ]
 
 
@@ -83,7 +91,11 @@ class KeepingTest(TestCase):
         made = [(function, [sample_tongue(), *deepcopy(rest)]) for function, rest in OF_A_TONGUE]
         made += [(look_at_wants, [wants_for(20)]), (sum_of, [[(1, 2), (1, 3)]]), (write_row, [list(BOOK), [0, 3, 0]]),
                  (read_row, [list(BOOK), "ddacdb"]), (claim_of_floors, [wants_for(2), dict(FLOORS)]),
-                 (claim_of_shares, [deepcopy(SHARES)]), (seek_book, [plain_tongue("ab", 3), wants_for(3), (9, 1), 9])]
+                 (claim_of_shares, [deepcopy(SHARES)]), (seek_book, [plain_tongue("ab", 3), wants_for(3), (9, 1), 9]),
+                 (put_wants, [wants_for(3), [1, 2, 0]]), (put_book, [list(BOOK), [3, 1, 2, 0]]),
+                 (more_often, [wants_for(3), 7]), (write_case, [(sample_tongue(), wants_for(4), list(BOOK))]),
+                 (read_case, [write_case((sample_tongue(), wants_for(4), list(BOOK)))]), (read_fraction, ["-1/2"]),
+                 (all_books, [plain_tongue("ab", 2), 3, False])]
         return made
 
     def test_what_is_handed_in_stays(self):
@@ -103,7 +115,11 @@ class KeepingTest(TestCase):
                                      (read_row, [thing, thing]), (lets_floors, [tongue, wants, thing, False]),
                                      (cheapest_book, [tongue, thing, True]), (lets_shares, [tongue, wants, thing]),
                                      (is_reason, [tongue, wants, (1, 2), [], thing]),
-                                     (lets_tree, [tongue, wants, (1, 2), thing]), (shares_for, [tongue, thing])):
+                                     (lets_tree, [tongue, wants, (1, 2), thing]), (shares_for, [tongue, thing]),
+                                     (put_wants, [wants, thing]), (put_book, [["a", "b"], thing]),
+                                     (turned_tongue, [tongue, thing]), (dearer, [tongue, thing]),
+                                     (more_often, [wants, thing]), (read_case, [thing]), (read_fraction, [thing]),
+                                     (mend, [tongue, thing, [], (0, 1), False])):
                 try:
                     function(*handed)
                 except DearError:

@@ -22,4 +22,4 @@ class ReadmeTest(TestCase):
             else:
                 self.assertEqual(repr(eval(call, known)), told.strip())
                 checked += 1
-        self.assertEqual(checked, 27)
+        self.assertEqual(checked, 42)
