@@ -177,7 +177,7 @@ class Desk:
         if name not in self.cases:
             raise Unknown("no case has this name")
         if words[0] == "drop":
-            del self.cases[name]
+            self.cases.pop(name)
             return "ok"
         told_by = ANSWERS[words[0]]
         case, told = told_by(self.cases[name], words[2:])

@@ -141,7 +141,7 @@ class BindingTest(TestCase):
             wants = wants_for(many)
             free = self.look_at(tongue, wants, {}, ordered)
             self.assertEqual(free, cheapest_book(tongue, wants, ordered)[1])
-            bound = {0: "bbbbbbbb", 1: "bbbbbbbc", many - 1: "ffffffff", many - 2: "ffffff" if not ordered else "fffffe"}
+            bound = {0: "bbbbbbbb", 1: "bbbbbbbc", many - 1: "ffffffff", many - 2: "fffffe" if ordered else "ffffff"}
             if not ordered:
                 self.assertIsNone(bound_book(tongue, wants, bound, ordered))
                 bound[many - 2] = "cdefcdef"
@@ -150,6 +150,13 @@ class BindingTest(TestCase):
         for many in range(1, 7):
             bound = dict(enumerate(words[:many]))
             self.assertIsNotNone(self.look_at(tongue, wants_for(6), bound, False))
+
+    def test_nothing_hangs_on_the_order_of_the_keys(self):
+        for tongue in (sample_tongue(), great_tongue()):
+            bound = {4: "dddd", 0: "cddd", 2: "dcdc"}
+            turned = {number: bound[number] for number in sorted(bound)}
+            self.assertEqual(bound_book(tongue, wants_for(5), bound, False),
+                             bound_book(tongue, wants_for(5), turned, False))
 
     def test_numbers_that_no_thing_has(self):
         # Of these nothing is promised, but that no book can have them.

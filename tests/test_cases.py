@@ -34,7 +34,8 @@ class ShowFractionTest(TestCase):
 
     def test_by_hand(self):
         for one, text in (((0, 1), "0"), ((1, 1), "1"), ((-1, 1), "-1"), ((1, 2), "1/2"), ((-1, 2), "-1/2"),
-                          ((1000, 1), "1000"), ((-22, 7), "-22/7"), ((10 ** 60 - 1, 10 ** 59), "9" * 60 + "/1" + "0" * 59),
+                          ((1000, 1), "1000"), ((-22, 7), "-22/7"),
+                          ((10 ** 60 - 1, 10 ** 59), "9" * 60 + "/1" + "0" * 59),
                           ((7, 10), "7/10"), ((10, 7), "10/7")):
             self.assertEqual(show_fraction(one), text)
             self.assertEqual(read_fraction(text), one)
@@ -167,8 +168,8 @@ class ReadCaseTest(TestCase):
                           "FIRST a", "thing x", "thing x 1 1", "word", "word a b", "pair", "pair a b", "pair a",
                           "longest 2 2", "sign f 1", "sign f 1 1 1", "thing  x 1", "thing x  1", " thing x 1",
                           "thing x 1 ", "word ", "word  a", " word a", "word a ", "thing\tx 1", "word\ta", "thing x\t1",
-                          "sign f 1\t1", "- -", "word a;", "thing x 1;", "first ", "first  a", "longest  3", "longest 3 ",
-                          "word A", "word abcdefghi", "word a1", "thing X 1", "thing abcdefghi 1", "thing x1 1"):
+                          "sign f 1\t1", "- -", "word a;", "thing x 1;", "first ", "first  a", "longest  3",
+                          "longest 3 ", "word A", "word abcdefghi", "word a1", "thing X 1", "thing abcdefghi 1", "thing x1 1"):
                 self.look_at_wrong_row(full[:many], wrong, full[many:])
 
     def test_rows_out_of_order(self):
@@ -197,7 +198,8 @@ class ReadCaseTest(TestCase):
         end = ["longest 1", "thing x 1"]
         self.assertEqual(len(read_case("\n".join(six + end))[0][0]), 6)
         self.look_at_wrong_row(six, "sign g 1 1", end)
-        for wrong in ("sign a 1 1", "sign b 2 -", "sign A 1 1", "sign 1 1 1", "sign de 1 1", "sign ; 1 1", "sign - 1 1"):
+        for wrong in ("sign a 1 1", "sign b 2 -", "sign A 1 1", "sign 1 1 1", "sign de 1 1", "sign ; 1 1",
+                      "sign - 1 1"):
             self.look_at_wrong_row(SIGNS, wrong, end)
         for wrong in ("-", "0", "-1", "-1/2", *NO_FRACTIONS):
             self.look_at_wrong_row(SIGNS, f"sign d {wrong} 1", end)

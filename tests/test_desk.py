@@ -182,7 +182,8 @@ class AnswersTest(DeskCase):
         self.assertEqual(desk.say("books x"), str(factorial(16)))
 
     def test_bound_where_longer_words_cost_less(self):
-        desk = self.desk(x="sign a 1 100; sign b 50 2; sign c 1/3 200; first b; pair ab; longest 8; thing x 3; thing y 4")
+        signs = "sign a 1 100; sign b 50 2; sign c 1/3 200"
+        desk = self.desk(x=f"{signs}; first b; pair ab; longest 8; thing x 3; thing y 4")
         # The cheapest word is cb.
         self.assertEqual(desk.say("bound x"), "49/3")
 
@@ -269,8 +270,8 @@ class RefusalsTest(DeskCase):
         for row in ROWS:
             row = row.replace("NAME", "x")
             words = row.split(" ")
-            wrong = [words[0], words[0] + " ", " " + row, row + " ", row.replace(" ", "  ", 1), row.replace(" ", "\t", 1),
-                     row + "\n", row.replace(" ", "\n", 1), row.upper(), " ".join([words[0], *words[2:]]) + " ",
+            wrong = [words[0], words[0] + " ", " " + row, row + " ", row.replace(" ", "  ", 1),
+                     row.replace(" ", "\t", 1), row + "\n", row.replace(" ", "\n", 1), row.upper(), " ".join([words[0], *words[2:]]) + " ",
                      row.replace("x", ""), row.replace("x", "X"), row.replace(" x", " x1"),
                      row.replace(" x", " abcdefghi"), "  ".join(words), row + "\n" + row]
             if words[0] != "write":

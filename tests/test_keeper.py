@@ -90,7 +90,9 @@ class KeeperTest(TestCase):
         self.assertEqual(Keeper(tongue, wants).least_now(), (11, 1))
         self.assertEqual(Keeper(tongue, wants, True).least_now(), (14, 1))
         self.assertEqual(Keeper(tongue, wants, True).book_now(), ["aa", "ab", "b"])
-        self.assertEqual(Keeper(tongue, wants, False, None).set_count("x", 10), Keeper(tongue, wants).set_count("x", 10))
+        told = Keeper(tongue, wants).set_count("x", 10)
+        self.assertEqual(Keeper(tongue, wants, False, None).set_count("x", 10), told)
+        self.assertEqual(Keeper(tongue, wants, False, (0, 1)).set_count("x", 10), told)
 
     def test_slack_keeps_words(self):
         tongue = plain_tongue("ab", 3)

@@ -105,6 +105,10 @@ class MendingTest(TestCase):
                 slack = cost - least - Fraction(1, 10 ** 8)
                 self.assertNotEqual(mend(tongue, wants, book, as_tuple(slack), False)[2], [])
 
+    def test_a_slack_below_nought(self):
+        # Not promised: a cheapest book is told all the same.
+        self.assertEqual(mend(plain_tongue("ab", 3), wants_for(2), ["a", "ba"], (-1, 2), False)[1], (3, 1))
+
     def test_elder_books_that_are_wrong(self):
         tongue = sample_tongue()
         wants = wants_for(3)

@@ -28,7 +28,7 @@ NO_LETTERS = ANYTHING + [
     {0: "a", 1: "b", 2: "c", 3: "d"},
 ]
 NO_ORDERS = [thing for thing in ANYTHING] + [
-    [0, 1], [0, 1, 2, 3], [0, 1, 1], [1, 2, 3], [0, 1, -1], [0, 1, 3], [0, 1, None], [0, 1, "2"], [0, 1, [2]],
+    [0, 1], [0, 1, 2, 3], [0, 1, 2, 2], [0, 1, 1], [1, 2, 3], [0, 1, -1], [0, 1, 3], [0, 1, None], [0, 1, "2"], [0, 1, [2]],
     [0, True, 2], [False, 1, 2], [0, 1, (2,)], (0, 1, 2), {0: 0, 1: 1, 2: 2}, "012", [[0, 1, 2]], [0, 1, 10 ** 59],
     [0, 1, (2, 1)], [nested_tuples(300)] * 3, [0, 1, {}],
 ]
@@ -261,8 +261,8 @@ class FactorTest(TestCase):
                 self.assertIsInstance(caught.exception, DearError)
 
     def test_counts_that_would_be_too_great(self):
-        for wants, factor in (([("x", 10 ** 9)], 2), ([("x", 10 ** 6 + 1)], 1000), ([("x", 1), ("y", 5 * 10 ** 8 + 1)], 2),
-                              ([("x", 333333334), ("y", 0)], 3)):
+        for wants, factor in (([("x", 10 ** 9)], 2), ([("x", 10 ** 6 + 1)], 1000), ([("x", 333333334), ("y", 0)], 3),
+                              ([("x", 1), ("y", 5 * 10 ** 8 + 1)], 2)):
             with self.assertRaises(NoTurn):
                 more_often(wants, factor)
         self.assertEqual(more_often([("x", 333333333), ("y", 0)], 3), [("x", 999999999), ("y", 0)])

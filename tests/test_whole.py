@@ -32,8 +32,8 @@ from tests.helpers import as_fraction, as_tuple, small_cases, some_price
 BOTH = (False, True)
 
 # The files that the interface lists.
-FILES = """errors numbers tongues words wants books trees columns writing reading seats floors cheapest shares sharing parts
-    reasons seeking binding mending keeper counting allbooks turning casewriter casereader desk""".split()
+FILES = """errors numbers tongues words wants books trees columns writing reading seats floors cheapest shares sharing
+    parts reasons seeking binding mending keeper counting allbooks turning casewriter casereader desk""".split()
 
 
 def few_books(many=50):
